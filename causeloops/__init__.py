@@ -1,0 +1,1 @@
+"""Causeloops: what each site must count when registers are kept in part."""

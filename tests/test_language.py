@@ -1,0 +1,59 @@
+"""The rules of the language that are easily measured: files, sizes, characters, imports and builtins."""
+
+import ast
+import builtins
+import pathlib
+import unittest
+
+PACKAGE = pathlib.Path(__file__).resolve().parent.parent / "causeloops"
+ALLOWED = """len range enumerate zip min max sum abs sorted reversed int str bool bytes list tuple dict set frozenset
+isinstance ord repr any all divmod pow getattr hasattr setattr iter next map type Exception ValueError TypeError
+KeyError IndexError LookupError ZeroDivisionError ArithmeticError OverflowError RuntimeError NotImplementedError
+AttributeError StopIteration NotImplemented property staticmethod classmethod super""".split()
+
+
+def trees():
+    return [(path, ast.parse(path.read_text())) for path in sorted(PACKAGE.rglob("*.py"))]
+
+
+class LanguageTests(unittest.TestCase):
+    def test_files_and_lines(self):
+        self.assertTrue((PACKAGE / "__init__.py").is_file())
+        for path in PACKAGE.rglob("*.py"):
+            text = path.read_text()
+            lines = text.split("\n")
+            self.assertLess(len(lines), 400, path)
+            self.assertLessEqual(max(len(line) for line in lines), 120, path)
+            self.assertTrue(all(" " <= letter <= "~" or letter == "\n" for letter in text), path)
+
+    def test_functions(self):
+        for path, tree in trees():
+            for node in ast.walk(tree):
+                if isinstance(node, ast.FunctionDef):
+                    self.assertLessEqual(node.end_lineno - node.lineno + 1, 40, (path, node.name))
+
+    def test_imports(self):
+        for path, tree in trees():
+            for node in ast.walk(tree):
+                self.assertNotIsInstance(node, ast.Import, path)
+                if isinstance(node, ast.ImportFrom) and node.module.startswith("causeloops"):
+                    source = ast.parse((PACKAGE.parent / (node.module.replace(".", "/") + ".py")).read_text())
+                    bound = [item.name for item in source.body if isinstance(item, (ast.FunctionDef, ast.ClassDef))]
+                    for name in node.names:
+                        self.assertTrue(name.name in bound or name.name.isupper(), (path, name.name))
+                elif isinstance(node, ast.ImportFrom):
+                    self.assertIn(node.module, ("__future__", "heapq", "math", "itertools", "collections"), path)
+
+    def test_builtins(self):
+        for path, tree in trees():
+            for node in ast.walk(tree):
+                if isinstance(node, ast.Name) and hasattr(builtins, node.id):
+                    self.assertIn(node.id, ALLOWED, (path, node.lineno))
+                    self.assertIsInstance(node.ctx, ast.Load, (path, node.lineno))
+                if isinstance(node, ast.arg):
+                    self.assertFalse(hasattr(builtins, node.arg), (path, node.lineno))
+                self.assertNotIsInstance(node, (ast.Global, ast.AsyncFunctionDef, ast.Div, ast.Set), path)
+
+
+if __name__ == "__main__":
+    unittest.main()
