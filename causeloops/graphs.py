@@ -7,6 +7,12 @@ def count_places(placement):
     return len(sites) + len(clients)
 
 
+def is_client(placement, place):
+    """Whether a place is a client."""
+    sites, _ = placement
+    return place >= len(sites)
+
+
 def kept_at(placement, place):
     """The ascending tuple of the registers that a place keeps."""
     sites, _ = placement
@@ -24,7 +30,7 @@ def shared_by(placement, one, other):
 def does_visit(placement, one, other):
     """Whether the first place is a client that visits the second one."""
     sites, clients = placement
-    return one >= len(sites) and other in clients[one - len(sites)]
+    return is_client(placement, one) and other in clients[one - len(sites)]
 
 
 def is_step(placement, one, other):

@@ -13,6 +13,11 @@ def is_below(thing, limit):
     return is_integer(thing) and 0 <= thing < limit
 
 
+def are_counts_of(thing, length):
+    """Whether any value is a tuple of exactly this many integers from 0 on."""
+    return is_tuple_of(thing, length) and all([is_integer(item) and item >= 0 for item in thing])
+
+
 def is_name(thing):
     """Whether any value is a string of 1 to 10 letters from a to z."""
     if not isinstance(thing, str) or not 1 <= len(thing) <= LONGEST_NAME:

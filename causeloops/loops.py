@@ -12,7 +12,11 @@ NONE = "none"
 def judge_loop(placement, place, edge):
     """A certificate: a loop, or a table of cuts that shows that there is none."""
     check_question(placement, place, edge)
-    net = Net(placement)
+    return certify(Net(placement), place, edge)
+
+
+def certify(net, place, edge):
+    """A certificate for a place and an edge that is not one of it, in a net."""
     cuts = []
     for way in find_left_ways(net, place, edge):
         hidden = hidden_bits(net, edge, way)

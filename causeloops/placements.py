@@ -1,8 +1,8 @@
 """Placements: which site keeps which registers, and which client visits which sites."""
 
 from causeloops.errors import BadEdge, BadPlace, BadPlacement
-from causeloops.graphs import all_edges, count_places, is_step, kept_at, shared_by
-from causeloops.kinds import are_below_ascending, are_names_ascending, is_below, is_tuple_of
+from causeloops.graphs import all_edges, count_places, does_visit, is_client, is_step, kept_at, shared_by
+from causeloops.kinds import are_below_ascending, are_names_ascending, is_ascending, is_below, is_tuple_of
 
 FEWEST_VISITED = 2
 
@@ -27,13 +27,27 @@ def is_place(placement, thing):
     return is_below(thing, count_places(placement))
 
 
+def is_site(placement, thing):
+    """Whether any value is a site of a valid placement."""
+    return is_below(thing, len(placement[0]))
+
+
+def is_visit(placement, client, site):
+    """Whether any values are a client of a valid placement and a site that it visits."""
+    return is_place(placement, client) and is_site(placement, site) and does_visit(placement, client, site)
+
+
 def is_edge(placement, thing):
     """Whether any value is an edge of a valid placement."""
     if not is_tuple_of(thing, 2):
         return False
     one, other = thing
-    count = len(placement[0])
-    return is_below(one, count) and is_below(other, count) and shared_by(placement, one, other) != ()
+    return is_site(placement, one) and is_site(placement, other) and shared_by(placement, one, other) != ()
+
+
+def are_edges(placement, thing):
+    """Whether any value is an ascending tuple of edges of a valid placement."""
+    return isinstance(thing, tuple) and all([is_edge(placement, item) for item in thing]) and is_ascending(thing)
 
 
 def check_placement(placement):
@@ -46,6 +60,20 @@ def check_place(placement, place):
     """Raise BadPlace for a value that is not a place of a valid placement."""
     if not is_place(placement, place):
         raise BadPlace(place)
+
+
+def check_site(placement, site):
+    """Raise BadPlace for a value that is not a site of a valid placement."""
+    if not is_site(placement, site):
+        raise BadPlace(site)
+
+
+def check_visit(placement, client, site):
+    """Raise BadPlace for a value that is not a client of a valid placement, or not a site that it visits."""
+    if not is_place(placement, client) or not is_client(placement, client):
+        raise BadPlace(client)
+    if not is_visit(placement, client, site):
+        raise BadPlace(site)
 
 
 def check_edge(placement, edge):

@@ -1,4 +1,4 @@
-"""The examples that the document gives in Parts 1 and 2, as they stand there."""
+"""The examples that the document gives in Parts 1 to 6, as they stand there."""
 
 import unittest
 
@@ -21,6 +21,54 @@ PART_2 = r"""
 [((3, 2),), True, False, True]
 >>> has_loop(LINE, 0, (1, 0))
 raises OwnEdge(edge=(1, 0))
+"""
+
+PART_3 = r"""
+>>> from causeloops.needs import counters, full_plan, is_enough, is_plan, lacking, least_plan, needed
+>>> LINE, JOINED = ((("a",), ("a", "b"), ("b",)), ()), ((("a",), ("a", "b"), ("b",)), ((0, 2),))
+>>> [needed(LINE, 0), needed(LINE, 1), needed(JOINED, 0), needed(JOINED, 3)]
+[((0, 1), (1, 0)), ((0, 1), (1, 0), (1, 2), (2, 1)), ((0, 1), (1, 0), (1, 2), (2, 1)), ((0, 1), (1, 0), (1, 2), (2, 1))]
+>>> [counters(LINE, least_plan(LINE)), counters(LINE, full_plan(LINE)), is_plan(JOINED, least_plan(LINE)), lacking(JOINED, least_plan(LINE) + ((),))]
+[8, 12, False, ((0, (1, 2)), (0, (2, 1)), (2, (0, 1)), (2, (1, 0)), (3, (0, 1)), (3, (1, 0)), (3, (1, 2)), (3, (2, 1)))]
+"""
+
+PART_4 = r"""
+>>> from causeloops.counts import applied, may_apply, may_visit, new_counts, visited, written
+>>> from causeloops.needs import least_plan
+>>> THREE = ((("a", "b"), ("b", "c"), ("a", "c")), ())
+>>> PLAN = least_plan(THREE)
+>>> [PLAN[0], new_counts(THREE, PLAN, 1), written(THREE, PLAN, 1, (0, 0, 0, 0, 0, 0), "c")]
+[((0, 1), (0, 2), (1, 0), (1, 2), (2, 0), (2, 1)), (0, 0, 0, 0, 0, 0), (0, 0, 0, 1, 0, 0)]
+>>> LATER = (1, "b", written(THREE, PLAN, 1, (0, 0, 0, 1, 0, 0), "b"))
+>>> [LATER, may_apply(THREE, PLAN, 0, (0, 0, 0, 0, 0, 0), LATER), applied(THREE, PLAN, 0, (0, 0, 0, 0, 0, 0), LATER)]
+[(1, 'b', (0, 0, 1, 1, 0, 0)), True, (0, 0, 1, 1, 0, 0)]
+>>> may_apply(THREE, PLAN, 2, (0, 0, 0, 0, 0, 0), (0, "a", (0, 1, 1, 1, 0, 0)))
+False
+"""
+
+PART_5 = r"""
+>>> from causeloops.needs import least_plan
+>>> from causeloops.runs import causes, is_event, is_run, judge_run, missing, possible
+>>> THREE = ((("a", "b"), ("b", "c"), ("a", "c")), ())
+>>> PLAN = least_plan(THREE)
+>>> POOR = (((0, 1), (0, 2), (1, 0), (2, 0), (2, 1)),) + PLAN[1:]
+>>> TOLD = (("write", 1, "c"), ("write", 1, "b"), ("apply", 0, 1), ("write", 0, "a"))
+>>> [possible(THREE, PLAN, TOLD), possible(THREE, POOR, TOLD), causes(THREE, PLAN, TOLD, 2), missing(THREE, PLAN, TOLD)]
+[(('apply', 2, 0),), (('apply', 2, 0), ('apply', 2, 2)), (0, 1), ((2, 0), (2, 2))]
+>>> [judge_run(THREE, POOR, TOLD + (("apply", 2, 2),)), is_run(THREE, PLAN, TOLD + (("apply", 2, 2),)), judge_run(THREE, PLAN, TOLD + (("apply", 2, 0), ("apply", 2, 2)))]
+[('early', 4, 0), False, ('right',)]
+"""
+
+PART_6 = r"""
+>>> from causeloops.needs import least_plan
+>>> from causeloops.plans import is_right, judge_plan, plan_holds, run_from_loop
+>>> from causeloops.runs import judge_run
+>>> THREE = ((("a", "b"), ("b", "c"), ("a", "c")), ())
+>>> POOR = (((0, 1), (0, 2), (1, 0), (2, 0), (2, 1)),) + least_plan(THREE)[1:]
+>>> [is_right(THREE, least_plan(THREE)), judge_plan(THREE, POOR)[0], judge_run(THREE, POOR, run_from_loop(THREE, POOR, 0, (1, 2), ((2,), (1,))))[0]]
+[True, 'wrong', 'early']
+>>> plan_holds(THREE, POOR, ("wrong", (("write", 1, "c"), ("write", 1, "b"), ("apply", 0, 1), ("write", 0, "a"), ("apply", 2, 2))))
+True
 """
 
 
@@ -53,6 +101,18 @@ class ExampleTests(unittest.TestCase):
 
     def test_part_2(self):
         self.assertEqual(self.run_examples(PART_2), 3)
+
+    def test_part_3(self):
+        self.assertEqual(self.run_examples(PART_3), 2)
+
+    def test_part_4(self):
+        self.assertEqual(self.run_examples(PART_4), 3)
+
+    def test_part_5(self):
+        self.assertEqual(self.run_examples(PART_5), 2)
+
+    def test_part_6(self):
+        self.assertEqual(self.run_examples(PART_6), 2)
 
 
 if __name__ == "__main__":

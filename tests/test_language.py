@@ -54,6 +54,25 @@ class LanguageTests(unittest.TestCase):
                     self.assertFalse(hasattr(builtins, node.arg), (path, node.lineno))
                 self.assertNotIsInstance(node, (ast.Global, ast.AsyncFunctionDef, ast.Div, ast.Set), path)
 
+    def test_names_of_imports_and_classes_mean_one_thing(self):
+        for path, tree in trees():
+            taken = [name.name for node in tree.body if isinstance(node, ast.ImportFrom) for name in node.names]
+            taken += [node.name for node in tree.body if isinstance(node, ast.ClassDef)]
+            self.assertEqual(len(taken), len(set(taken)), path)
+            bound = [node.id for node in ast.walk(tree) if isinstance(node, ast.Name)
+                     and isinstance(node.ctx, ast.Store)]
+            bound += [node.arg for node in ast.walk(tree) if isinstance(node, ast.arg)]
+            self.assertEqual(set(bound) & set(taken), set(), path)
+
+    def test_methods_and_attributes_have_names_of_their_own(self):
+        for path, tree in trees():
+            for made in [node for node in tree.body if isinstance(node, ast.ClassDef)]:
+                methods = [node.name for node in made.body if isinstance(node, ast.FunctionDef)]
+                stored = [node.attr for node in ast.walk(made) if isinstance(node, ast.Attribute)
+                          and isinstance(node.ctx, ast.Store)]
+                self.assertEqual(len(methods), len(set(methods)), path)
+                self.assertEqual(set(methods) & set(stored), set(), path)
+
 
 if __name__ == "__main__":
     unittest.main()

@@ -1,6 +1,5 @@
-"""[0.2] Conventions: wrong values, their errors in order, and how calls are made."""
+"""[0.2] Conventions for Parts 1 and 2: wrong values, their errors in order, and how calls are made."""
 
-import inspect
 import unittest
 
 from causeloops import loops, placements
@@ -8,73 +7,18 @@ from causeloops.errors import BadEdge, BadPlace, BadPlacement, OwnEdge
 from causeloops.loops import has_loop, judge_loop, left_ways, loop_holds
 from causeloops.placements import edges, has_step, is_placement, keeps, places, shared
 from tests import oracle
+from tests.interface import INTERFACE
 from tests.samples import FULL, JOINED, LINE, NAMED, THREE, strange_values, told, variants
+from tests.wrong import PARTS, is_valid, wrong_edges, wrong_placements, wrong_places
 
-PARTS = (None, True, False, 0, 1, -1, 99, "a", "b", "A", "", (), [], {}, ("a",), ["a"], ("b", "a"), (0, 1), [0, 1])
-INTERFACE = {
-    placements: {
-        "is_placement": ("thing",), "places": ("placement",), "keeps": ("placement", "place"),
-        "shared": ("placement", "one", "other"), "has_step": ("placement", "one", "other"), "edges": ("placement",),
-    },
-    loops: {
-        "judge_loop": ("placement", "place", "edge"), "loop_holds": ("placement", "place", "edge", "thing"),
-        "has_loop": ("placement", "place", "edge"), "left_ways": ("placement", "place", "edge"),
-    },
-}
 OF_EDGES = (judge_loop, has_loop, left_ways)
 
 
-def is_valid(thing):
-    """A second reading of [1.1]."""
-    if type(thing) is not tuple or len(thing) != 2 or type(thing[0]) is not tuple or type(thing[1]) is not tuple:
-        return False
-    for row in thing[0]:
-        if type(row) is not tuple or not all(type(name) is str for name in row) or list(row) != sorted(set(row)):
-            return False
-        if not all(0 < len(name) < 11 and set(name) <= set("abcdefghijklmnopqrstuvwxyz") for name in row):
-            return False
-    for row in thing[1]:
-        if type(row) is not tuple or not all(type(site) is int for site in row) or list(row) != sorted(set(row)):
-            return False
-        if len(row) < 2 or row[0] < 0 or row[-1] >= len(thing[0]):
-            return False
-    return True
-
-
-def wrong_placements():
-    things = strange_values()
-    for placement in (LINE, JOINED, THREE):
-        things += variants(placement, PARTS)
-    return [thing for thing in things if not is_valid(thing)]
-
-
-def wrong_places(placement):
-    count = oracle.places_of(placement)
-    things = strange_values() + [count, count + 1, -count, str(count - 1), (count - 1,)]
-    return [thing for thing in things if type(thing) is not int or not 0 <= thing < count]
-
-
-def wrong_edges(placement):
-    good = oracle.edges_of(placement)
-    things = strange_values() + [(one, other) for one in range(-2, 8) for other in range(-2, 8)]
-    for edge in good:
-        things += variants(edge, PARTS)
-    right = [repr(edge) for edge in good]
-    return [thing for thing in things if repr(thing) not in right]
-
-
 class InterfaceTests(unittest.TestCase):
-    def test_parameters_and_files(self):
-        for module, listed in INTERFACE.items():
-            for name, parameters in listed.items():
-                call = getattr(module, name)
-                self.assertEqual(tuple(inspect.signature(call).parameters), parameters, name)
-                self.assertEqual(call.__module__, module.__name__, name)
-
     def test_by_position_and_by_name(self):
         values = {"placement": THREE, "thing": ("loop", (2,), (1,)), "place": 0, "edge": (1, 2), "one": 0, "other": 1}
-        for module, listed in INTERFACE.items():
-            for name, parameters in listed.items():
+        for module in (placements, loops):
+            for name, parameters in INTERFACE[module].items():
                 call, given = getattr(module, name), {parameter: values[parameter] for parameter in parameters}
                 self.assertEqual(call(*given.values()), call(**given), name)
                 backwards = {parameter: given[parameter] for parameter in reversed(parameters)}
