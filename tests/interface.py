@@ -1,8 +1,9 @@
 """The names and the parameters that the document lists, file by file."""
 
-from causeloops import counts, loops, needs, placements, plans, runs
+from causeloops import counts, growth, loops, needs, placements, plans, ranks, runs, standins
 
 BOTH = ("placement", "plan")
+FROM = ("placement", "site", "edges")
 INTERFACE = {
     placements: {
         "is_placement": ("thing",), "places": ("placement",), "keeps": ("placement", "place"),
@@ -30,5 +31,22 @@ INTERFACE = {
     plans: {
         "judge_plan": BOTH, "plan_holds": BOTH + ("thing",), "is_right": BOTH,
         "run_from_loop": BOTH + ("place", "edge", "loop"),
+    },
+    ranks: {
+        "row_of": ("placement", "edge"), "basis": FROM, "rank": FROM, "weights": FROM, "packed": FROM + ("counts",),
+        "unpacked": FROM + ("counts",), "groups": ("placement", "edges"), "is_whole": BOTH, "whole": BOTH,
+        "numbers": BOTH, "judge_edge": ("placement", "site", "others", "edge"),
+        "edge_holds": ("placement", "site", "others", "edge", "thing"), "judge_counts": FROM + ("counts",),
+        "counts_hold": FROM + ("counts", "thing"),
+    },
+    standins: {
+        "are_standins": ("placement", "thing"), "widened": ("placement", "standins"), "price": ("placement", "standins"),
+        "all_standins": ("placement",), "best_price": ("placement", "most"), "best_standins": ("placement", "most"),
+        "judge_standins": ("placement", "standins", "most"),
+        "standins_hold": ("placement", "standins", "most", "thing"),
+    },
+    growth: {
+        "is_change": ("placement", "thing"), "changed": ("placement", "change"), "news": ("placement", "change"),
+        "place_after": ("placement", "change", "place"), "counts_anew": ("placement", "change", "writes"),
     },
 }

@@ -1,4 +1,4 @@
-"""The examples that the document gives in Parts 1 to 6, as they stand there."""
+"""The examples that the document gives in Parts 1 to 9, as they stand there."""
 
 import unittest
 
@@ -71,6 +71,38 @@ PART_6 = r"""
 True
 """
 
+PART_7 = r"""
+>>> from causeloops.ranks import basis, edge_holds, groups, is_whole, judge_counts, numbers, packed, rank, row_of, unpacked, weights
+>>> FOUR = ((("a", "b", "c"), ("a",), ("b",), ("a", "b")), ())
+>>> EDGES = ((0, 1), (0, 2), (0, 3))
+>>> [row_of(FOUR, (0, 3)), basis(FOUR, 0, EDGES), rank(FOUR, 0, EDGES), weights(FOUR, 0, EDGES)]
+[(1, 1, 0), ((0, 1), (0, 2)), 2, (((1, 1), (0, 1)), ((0, 1), (1, 1)), ((1, 1), (1, 1)))]
+>>> [packed(FOUR, 0, EDGES, (2, 3, 5)), unpacked(FOUR, 0, EDGES, (2, 3)), judge_counts(FOUR, 0, ((0, 1), (0, 3)), (2, 1))]
+[(2, 3), ((2, 1), (3, 1), (5, 1)), ('none',)]
+>>> [edge_holds(FOUR, 0, ((0, 1),), (0, 3), ("open", (0, 0, 0), (0, 1, 0))), edge_holds(FOUR, 0, ((0, 1), (0, 2)), (0, 3), ("told", ((1, 1), (1, 1)))), groups(FOUR, ((1, 0), (1, 3), (3, 0)))]
+[True, True, (((1, 0), (1, 3)), ((3, 0),))]
+>>> FULL = (("a",), ("a",), ("a",)), ()
+>>> ALL = ((0, 1), (0, 2), (1, 0), (1, 2), (2, 0), (2, 1))
+>>> [numbers(FULL, (ALL, ALL, ALL)), is_whole(FULL, (ALL, ALL, ALL)), is_whole(FULL, (((0, 1), (0, 2), (1, 0), (2, 0)), ALL, ALL))]
+[(3, 3, 3), True, False]
+"""
+
+PART_8 = r"""
+>>> from causeloops.standins import all_standins, best_price, judge_standins, price, widened
+>>> SMALL = ((("b",), ("b", "d", "e"), ("b", "c", "e")), ())
+>>> [all_standins(SMALL), widened(SMALL, ((0, "e"),))[0][0], price(SMALL, ()), price(SMALL, ((0, "e"),)), best_price(SMALL, 1), judge_standins(SMALL, ((0, "e"),), 1)]
+[((0, 'c'), (0, 'd'), (0, 'e'), (1, 'c'), (2, 'd')), ('b', 'e'), (15, 3), (9, 4), (9, 4), ('best',)]
+"""
+
+PART_9 = r"""
+>>> from causeloops.growth import changed, counts_anew, is_change, news
+>>> ROW = ((("a",), ("a", "b"), ("b",)), ())
+>>> [changed(ROW, ("keep", 2, "a"))[0][2], news(ROW, ("keep", 0, "b"))[0], news(ROW, ("join", (0, 2)))[0], is_change(ROW, ("drop", 0, "b"))]
+[('a', 'b'), (((0, 2), (1, 2), (2, 0), (2, 1)), ()), (((1, 2), (2, 1)), ()), False]
+>>> counts_anew(ROW, ("join", (0, 2)), ((("a", 4),), (("a", 1), ("b", 2)), ()))[3]
+(4, 1, 2, 0)
+"""
+
 
 def answer_of(code, names):
     """What an example shows: a value as Python shows it, or its error."""
@@ -113,6 +145,15 @@ class ExampleTests(unittest.TestCase):
 
     def test_part_6(self):
         self.assertEqual(self.run_examples(PART_6), 2)
+
+    def test_part_7(self):
+        self.assertEqual(self.run_examples(PART_7), 4)
+
+    def test_part_8(self):
+        self.assertEqual(self.run_examples(PART_8), 1)
+
+    def test_part_9(self):
+        self.assertEqual(self.run_examples(PART_9), 2)
 
 
 if __name__ == "__main__":
