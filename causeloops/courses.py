@@ -1,7 +1,7 @@
 """Runs as they go on: the counts of all places, the updates, and what is known of them."""
 
 from causeloops.graphs import count_places, kept_at
-from causeloops.kinds import is_below, is_tuple_of
+from causeloops.kinds import is_tuple_of
 from causeloops.news import News
 from causeloops.placements import is_site, is_visit
 from causeloops.tallies import edges_ahead, is_next, merge_counts, write_counts, zero_counts
@@ -43,9 +43,7 @@ class Course:
 
     def can_apply(self, site, number):
         """Whether any values are a site and the number of an update that is ready there and that it lacks."""
-        if not is_site(self.layout, site) or not is_below(number, len(self.updates)):
-            return False
-        if not self.news.lacked(site, 1 << number):
+        if not is_site(self.layout, site) or not self.news.is_waiting(site, number):
             return False
         return is_next(self.counted, site, self.tallies[site], self.updates[number])
 

@@ -30,6 +30,13 @@ class Net:
         return both & hidden != both
 
 
+def net_within(placement, group):
+    """The net of a valid placement with only the steps between places of a group."""
+    net = Net(placement)
+    net.near = [[other for other in near if place in group and other in group] for place, near in enumerate(net.near)]
+    return net
+
+
 def kept_bits(placement):
     """A list with, for each place, the bits of the registers that it keeps."""
     sites, clients = placement

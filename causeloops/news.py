@@ -1,6 +1,7 @@
 """Which updates the places know and have, whoever tells what happens."""
 
 from causeloops.graphs import count_places
+from causeloops.kinds import is_below
 
 
 class News:
@@ -42,6 +43,10 @@ class News:
     def lacked(self, site, bits):
         """Those of some updates whose register a site keeps and which it does not have."""
         return bits & self.kept[site] & ~self.had[site]
+
+    def is_waiting(self, site, number):
+        """Whether any value is the number of an update whose register a site keeps and which it does not have."""
+        return is_below(number, len(self.causes)) and self.lacked(site, 1 << number) != 0
 
     def missing_at(self, site):
         """The ascending tuple of the numbers of all updates whose register a site keeps and which it does not have."""

@@ -48,7 +48,11 @@ def causes(placement, plan, run, m):
 
 def judge_run(placement, plan, run):
     """A certificate: the first early event and an update that it should have come after, or that none is early."""
-    course = course_after(placement, plan, run)
+    return verdict_of(course_after(placement, plan, run))
+
+
+def verdict_of(course):
+    """A certificate for the run of a course."""
     at = course.first_early()
     if at is None:
         return (RIGHT,)

@@ -2,7 +2,9 @@
 
 from itertools import combinations, product
 
+from causeloops.benches import Bench
 from causeloops.errors import BadPlacement, LoopError, NotReady
+from causeloops.stores import Store
 
 LINE = ((("a",), ("a", "b"), ("b",)), ())
 JOINED = ((("a",), ("a", "b"), ("b",)), ((0, 2),))
@@ -66,8 +68,21 @@ def many_placements():
     return found
 
 
+def own_objects():
+    """A store and a bench at which something was done."""
+    plan = (((0, 1), (1, 0)),) * 3
+    placement = ((("a",), ("a",)), ((0, 1),))
+    store, bench = Store(placement, plan), Bench(placement, plan)
+    store.put(2, 0, "a", 1)
+    bench.do(("write", 0, "a"))
+    bench.do(("apply", 1, 0))
+    bench.undo()
+    return store, bench
+
+
 def strange_values():
     """Values of all kinds that can be passed as any value."""
+    store, bench = own_objects()
     deep = ()
     for _ in range(9):
         deep = (deep,)
@@ -76,6 +91,7 @@ def strange_values():
         (), [], {}, ((),), [()], (None,), (True,), (0,), (0, 1), [0, 1], (1, 1), (False, True), ("a", "b"),
         (0, 1, 2), ((0, 1),), {"a": 1}, {0: ()}, deep, (0, "1"), ("0", 1), (-1, 0), (0, None), tuple(range(1000)),
         LoopError(), NotReady(), BadPlacement(3), (BadPlacement(()), 1), [[[["a"]]]],
+        store, bench, (store, bench), [store], {"a": bench}, ("loop", store, bench), (store, (bench,)), ((store,), ()),
     ]
 
 
@@ -95,9 +111,13 @@ def variants(thing, parts):
     return found
 
 
-def snapshot(values):
-    """A text that changes if one of the values does; objects are told by their attributes."""
-    return repr([[value, getattr(value, "__dict__", None)] for value in values])
+def snapshot(value):
+    """What changes if a value or a part of it does; objects are told by their attributes."""
+    if type(value) in (tuple, list):
+        return type(value), [snapshot(part) for part in value]
+    if type(value) is dict:
+        return dict, [(repr(key), snapshot(part)) for key, part in value.items()]
+    return type(value), snapshot(vars(value)) if hasattr(value, "__dict__") else repr(value)
 
 
 def told(call, *values, **named):

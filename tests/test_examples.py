@@ -1,4 +1,4 @@
-"""The examples that the document gives in Parts 1 to 9, as they stand there."""
+"""The examples that the document gives in all parts, as they stand there."""
 
 import unittest
 
@@ -103,6 +103,56 @@ PART_9 = r"""
 (4, 1, 2, 0)
 """
 
+PART_10 = r"""
+>>> from causeloops.shapes import blocks, cuts, needs_by_blocks, parts, ring_holds, shape
+>>> KITE = ((("a", "c"), ("a", "b"), ("b", "c", "d"), ("d",), ("e",)), ())
+>>> [parts(KITE), blocks(KITE), cuts(KITE), shape(KITE), needs_by_blocks(KITE)[0], needs_by_blocks(KITE)[3], ring_holds(KITE, 0, 2, (0, 1, 2))]
+[((0, 1, 2, 3), (4,)), ((0, 1, 2), (2, 3)), (2,), 'other', (((0, 1, 2), ((1, 2), (2, 1))),), (((2, 3), ()),), True]
+>>> [shape(((("a",), ("a", "b"), ("b",)), ())), shape(((("a",), ("a",)), ())), shape(((("a", "c"), ("a", "b"), ("b", "c")), ())), shape(((("a",), ("a",), ("a",)), ()))]
+['forest', 'forest', 'ring', 'full']
+"""
+
+PART_11 = r"""
+>>> from causeloops.needs import least_plan
+>>> from causeloops.stores import Store
+>>> JOINED = ((("a",), ("a", "b"), ("b",)), ((0, 2),))
+>>> shop = Store(JOINED, least_plan(JOINED))
+>>> [shop.write(1, "b", 5), shop.write(1, "a", 6), shop.waiting(), shop.apply(0, 1), shop.read(3, 0, "a"), shop.can_visit(3, 2)]
+[0, 1, ((0, 1), (2, 0)), None, 6, False]
+>>> [shop.settle(), shop.read(3, 2, "b"), shop.counts(3), shop.value(0, "a")]
+[1, 5, (0, 1, 1, 0), 6]
+"""
+
+PART_12 = r"""
+>>> from causeloops.needs import least_plan
+>>> from causeloops.stores import Store
+>>> from causeloops.views import history, is_history, judge_history, known_after, run_of
+>>> JOINED = ((("a",), ("a", "b"), ("b",)), ((0, 2),))
+>>> shop = Store(JOINED, least_plan(JOINED))
+>>> [shop.write(1, "b", 5), shop.write(1, "a", 6), shop.apply(0, 1), shop.read(3, 0, "a")]
+[0, 1, None, 6]
+>>> [history(shop), run_of(shop), known_after(JOINED, history(shop), 3)]
+[(('write', 1, 'b', 5), ('write', 1, 'a', 6), ('apply', 0, 1), ('visit', 3, 0), ('read', 3, 0, 'a', 6)), (('write', 1, 'b'), ('write', 1, 'a'), ('apply', 0, 1), ('visit', 3, 0)), (0, 1)]
+>>> BAD = history(shop) + (("visit", 3, 2), ("read", 3, 2, "b", None))
+>>> [judge_history(JOINED, BAD), is_history(JOINED, least_plan(JOINED), BAD)]
+[('old', 6), False]
+"""
+
+PART_13 = r"""
+>>> from causeloops.benches import Bench, is_short, placement_text, read_placement, run_text, shortened, without
+>>> from causeloops.needs import least_plan
+>>> THREE = ((("a", "b"), ("b", "c"), ("a", "c")), ())
+>>> POOR = (((0, 1), (0, 2), (1, 0), (2, 0), (2, 1)),) + least_plan(THREE)[1:]
+>>> LONG = (("write", 0, "b"), ("write", 1, "c"), ("write", 1, "b"), ("apply", 0, 2), ("write", 0, "a"), ("apply", 2, 3))
+>>> [placement_text(THREE), read_placement(placement_text(THREE)) == THREE, run_text(THREE, POOR, LONG[:2])]
+['site a b\nsite b c\nsite a c', True, 'write 0 b\nwrite 1 c']
+>>> [is_short(THREE, POOR, LONG), shortened(THREE, POOR, LONG), without(THREE, POOR, LONG, 2)]
+[False, (('write', 1, 'c'), ('write', 1, 'b'), ('apply', 0, 1), ('write', 0, 'a'), ('apply', 2, 2)), (('write', 0, 'b'), ('write', 1, 'c'), ('write', 0, 'a'), ('apply', 2, 2))]
+>>> desk = Bench(THREE, least_plan(THREE))
+>>> [desk.do(("write", 1, "c")), desk.undo(), desk.redo(), desk.redo(), desk.run(), desk.verdict()]
+[None, True, True, False, (('write', 1, 'c'),), ('right',)]
+"""
+
 
 def answer_of(code, names):
     """What an example shows: a value as Python shows it, or its error."""
@@ -154,6 +204,18 @@ class ExampleTests(unittest.TestCase):
 
     def test_part_9(self):
         self.assertEqual(self.run_examples(PART_9), 2)
+
+    def test_part_10(self):
+        self.assertEqual(self.run_examples(PART_10), 2)
+
+    def test_part_11(self):
+        self.assertEqual(self.run_examples(PART_11), 2)
+
+    def test_part_12(self):
+        self.assertEqual(self.run_examples(PART_12), 3)
+
+    def test_part_13(self):
+        self.assertEqual(self.run_examples(PART_13), 3)
 
 
 if __name__ == "__main__":

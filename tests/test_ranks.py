@@ -264,7 +264,16 @@ class EdgeCertificateTests(unittest.TestCase):
         for thing in (good + (1,), good[:1], list(good), ("open",) + good[1:], ("Told",) + good[1:], good[1], (),
                       ("told", (0, 0, 0), (0, 1, 0)), ("open", (0, 0, 0), (0, 1, 0)), (("told",), good[1])):
             self.check(FOUR, 0, others, (0, 3), thing, False)
-        self.check(FOUR, 0, ((0, 1),), (0, 3), ("open", (0, 0, 0), (0, 1, 0), ()), False)
+        for thing in (("open", (0, 0, 0), (0, 1, 0), ()), ("told", (0, 0, 0), (0, 1, 0)), ("", (0, 0, 0), (0, 1, 0))):
+            self.check(FOUR, 0, ((0, 1),), (0, 3), thing, False)
+
+    def test_writes_that_differ_by_more_than_one(self):
+        placement = ((("a", "b", "c", "d"), ("a", "b", "d"), ("b", "c", "d"), ("a", "c", "d"), ("d",)), ())
+        others = ((0, 1), (0, 2), (0, 3))
+        found = judge_edge(placement, 0, others, (0, 4))
+        self.check(placement, 0, others, (0, 4), found, True)
+        self.check(placement, 0, others, (0, 4), ("open", (0, 0, 0, 2), (1, 1, 1, 0)), True)
+        self.check(placement, 0, others, (0, 4), ("open", (0, 0, 0, 1), (1, 1, 1, 0)), False)
 
 
 class CountsCertificateTests(unittest.TestCase):
