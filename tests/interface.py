@@ -1,6 +1,7 @@
 """The names and the parameters that the document lists, file by file."""
 
-from causeloops import counts, growth, loops, needs, placements, plans, ranks, runs, standins
+from causeloops import (benches, counts, growth, loops, needs, placements, plans, ranks, runs, shapes, standins, stores,
+                        views)
 
 BOTH = ("placement", "plan")
 FROM = ("placement", "site", "edges")
@@ -49,4 +50,33 @@ INTERFACE = {
         "is_change": ("placement", "thing"), "changed": ("placement", "change"), "news": ("placement", "change"),
         "place_after": ("placement", "change", "place"), "counts_anew": ("placement", "change", "writes"),
     },
+    shapes: {
+        "parts": ("placement",), "blocks": ("placement",), "cuts": ("placement",), "shape": ("placement",),
+        "restricted": ("placement", "places"), "needs_by_blocks": ("placement",),
+        "ring_of": ("placement", "one", "other"), "ring_holds": ("placement", "one", "other", "thing"),
+    },
+    views: {
+        "history": ("store",), "run_of": ("store",), "is_history": BOTH + ("thing",), "replayed": BOTH + ("thing",),
+        "is_free": ("placement", "thing"), "judge_history": ("placement", "rows"),
+        "history_holds": ("placement", "rows", "thing"), "known_after": ("placement", "rows", "place"),
+    },
+    benches: {
+        "placement_text": ("placement",), "read_placement": ("text",), "run_text": BOTH + ("run",),
+        "read_run": BOTH + ("text",), "without": BOTH + ("run", "at"), "is_short": BOTH + ("run",),
+        "shortened": BOTH + ("run",),
+    },
 }
+CLASSES = {
+    stores.Store: {
+        "__init__": BOTH, "write": ("site", "register", "value"), "waiting": (), "is_ready": ("site", "number"),
+        "apply": ("site", "number"), "settle": (), "value": ("site", "register"), "can_visit": ("client", "site"),
+        "visit": ("client", "site"), "read": ("client", "site", "register"),
+        "put": ("client", "site", "register", "value"), "counts": ("place",), "placement": (), "plan": (), "copy": (),
+        "__eq__": ("other",),
+    },
+    benches.Bench: {
+        "__init__": BOTH, "do": ("event",), "undo": (), "redo": (), "change": ("plan",), "run": (), "plan": (),
+        "placement": (), "verdict": (),
+    },
+}
+MODULES = {stores.Store: "causeloops.stores", benches.Bench: "causeloops.benches"}

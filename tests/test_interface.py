@@ -3,7 +3,13 @@
 import inspect
 import unittest
 
-from tests.interface import INTERFACE
+from tests.interface import CLASSES, INTERFACE, MODULES
+
+
+def plainly_asked_for(test, call, name):
+    for parameter in inspect.signature(call).parameters.values():
+        test.assertEqual(parameter.kind, inspect.Parameter.POSITIONAL_OR_KEYWORD, name)
+        test.assertIs(parameter.default, inspect.Parameter.empty, name)
 
 
 class InterfaceTests(unittest.TestCase):
@@ -18,9 +24,17 @@ class InterfaceTests(unittest.TestCase):
     def test_all_parameters_are_asked_for(self):
         for module, listed in INTERFACE.items():
             for name in listed:
-                for parameter in inspect.signature(getattr(module, name)).parameters.values():
-                    self.assertEqual(parameter.kind, inspect.Parameter.POSITIONAL_OR_KEYWORD, name)
-                    self.assertIs(parameter.default, inspect.Parameter.empty, name)
+                plainly_asked_for(self, getattr(module, name), name)
+
+    def test_classes_and_their_methods(self):
+        for made, listed in CLASSES.items():
+            self.assertEqual(made.__bases__, (object,))
+            self.assertEqual(made.__module__, MODULES[made])
+            for name, parameters in listed.items():
+                method = vars(made)[name]
+                self.assertTrue(inspect.isfunction(method), name)
+                self.assertEqual(tuple(inspect.signature(method).parameters), ("self",) + parameters, name)
+                plainly_asked_for(self, method, name)
 
 
 if __name__ == "__main__":
