@@ -82,9 +82,8 @@ def needs_by_blocks(placement):
     told = [[] for _ in range(count_places(placement))]
     for block in find_blocks(Net(placement)):
         net = net_within(placement, block)
-        inner = [edge for edge in all_edges(placement) if edge[0] in block and edge[1] in block]
         for place in block:
-            others = [edge for edge in inner if place not in edge]
+            others = [edge for edge in all_edges(placement) if place not in edge]
             told[place].append((block, tuple([edge for edge in others if is_on_loop(net, place, edge)])))
     return tuple([tuple(rows) for rows in told])
 

@@ -11,6 +11,10 @@ isinstance ord repr any all divmod pow getattr hasattr setattr iter next map typ
 KeyError IndexError LookupError ZeroDivisionError ArithmeticError OverflowError RuntimeError NotImplementedError
 AttributeError StopIteration NotImplemented property staticmethod classmethod super""".split()
 
+METHODS = """append clear copy count endswith extend find get index insert isalnum isalpha isdigit islower isspace isupper
+items join keys ljust lower lstrip partition pop remove replace reverse rfind rjust rpartition rsplit rstrip setdefault
+split splitlines startswith strip update upper values zfill bit_length""".split()
+
 
 def trees():
     return [(path, ast.parse(path.read_text())) for path in sorted(PACKAGE.rglob("*.py"))]
@@ -72,6 +76,17 @@ class LanguageTests(unittest.TestCase):
                           and isinstance(node.ctx, ast.Store)]
                 self.assertEqual(len(methods), len(set(methods)), path)
                 self.assertEqual(set(methods) & set(stored), set(), path)
+
+    def test_methods_are_own_ones_or_allowed(self):
+        nodes = [node for _, tree in trees() for node in ast.walk(tree)]
+        own = {part.name for node in nodes if isinstance(node, ast.ClassDef) for part in node.body
+               if isinstance(part, ast.FunctionDef)}
+        stored = {node.attr for node in nodes if isinstance(node, ast.Attribute) and isinstance(node.ctx, ast.Store)}
+        called = {node.func.attr for node in nodes if isinstance(node, ast.Call) and isinstance(node.func, ast.Attribute)}
+        self.assertLessEqual(called, own | set(METHODS))
+        self.assertEqual(own & stored, set())
+        read = {node.attr for node in nodes if isinstance(node, ast.Attribute) and isinstance(node.ctx, ast.Load)}
+        self.assertLessEqual(read - called, stored)
 
 
 if __name__ == "__main__":

@@ -8,8 +8,8 @@ from causeloops.errors import (BadCounts, BadEdge, BadLoop, BadPlace, BadPlaceme
 from tests import oracle, oracle_runs
 from tests.interface import INTERFACE
 from tests.samples import ALONE, JOINED, LINE, LoopError, NAMED, THREE, strange_values, told, variants
-from tests.wrong import (PARTS, check_errors, wrong_clients, wrong_counts, wrong_edges, wrong_placements,
-                         wrong_places, wrong_plans, wrong_runs, wrong_sites)
+from tests.wrong import (PARTS, check_errors, check_ways_of_calling, wrong_clients, wrong_counts, wrong_edges,
+                         wrong_placements, wrong_places, wrong_plans, wrong_runs, wrong_sites)
 
 PLAN = needs.least_plan(JOINED)
 BLIND = oracle_runs.own(JOINED)
@@ -68,12 +68,7 @@ def wrong_of(name, good):
 
 class InterfaceTests(unittest.TestCase):
     def test_by_position_and_by_name(self):
-        for call, good in calls():
-            answer = told(call, *good.values())
-            self.assertFalse(type(answer) is tuple and answer and isinstance(answer[0], type), (call.__name__, answer))
-            self.assertEqual(told(call, **good), answer, call.__name__)
-            backwards = {name: good[name] for name in reversed(list(good))}
-            self.assertEqual(told(call, **backwards), answer, call.__name__)
+        check_ways_of_calling(self, calls())
 
     def test_errors_by_their_order(self):
         for call, good in calls():

@@ -9,7 +9,8 @@ from causeloops.needs import least_plan
 from tests import oracle, oracle_growth, oracle_ranks, oracle_runs
 from tests.interface import INTERFACE
 from tests.samples import ALONE, JOINED, LINE, LoopError, STAR, THREE, strange_values, told, variants
-from tests.wrong import (PARTS, check_errors, wrong_edges, wrong_placements, wrong_places, wrong_plans, wrong_sites)
+from tests.wrong import (PARTS, check_errors, check_ways_of_calling, wrong_edges, wrong_placements, wrong_places,
+                         wrong_plans, wrong_sites)
 
 CLIENTS = ((("a", "b", "c"), ("a",), ("b",), ("a", "b")), ((0, 2), (1, 3)))
 EDGES = ((0, 1), (0, 2), (0, 3))
@@ -95,12 +96,7 @@ def wrong_of(call, name, good):
 
 class InterfaceTests(unittest.TestCase):
     def test_by_position_and_by_name(self):
-        for call, good in calls():
-            answer = told(call, *good.values())
-            self.assertFalse(type(answer) is tuple and answer and isinstance(answer[0], type), (call.__name__, answer))
-            self.assertEqual(told(call, **good), answer, call.__name__)
-            backwards = {name: good[name] for name in reversed(list(good))}
-            self.assertEqual(told(call, **backwards), answer, call.__name__)
+        check_ways_of_calling(self, calls())
 
     def test_errors_by_their_order(self):
         for call, good in calls():

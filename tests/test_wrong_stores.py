@@ -12,8 +12,8 @@ from causeloops.views import history
 from tests import oracle_runs, oracle_stores
 from tests.interface import CLASSES, INTERFACE
 from tests.samples import JOINED, LINE, THREE, own_objects, snapshot, strange_values, told, variants
-from tests.wrong import (PARTS, check_errors, wrong_clients, wrong_placements, wrong_places, wrong_plans, wrong_runs,
-                         wrong_sites)
+from tests.wrong import (PARTS, check_errors, check_ways_of_calling, wrong_clients, wrong_placements, wrong_places,
+                         wrong_plans, wrong_runs, wrong_sites)
 
 BLIND = oracle_runs.own(JOINED)
 RUN = (("write", 1, "b"), ("write", 1, "a"), ("apply", 0, 1), ("visit", 3, 0), ("visit", 3, 2))
@@ -83,13 +83,7 @@ def wrong_parts(good, shift):
 
 class InterfaceTests(unittest.TestCase):
     def test_by_position_and_by_name(self):
-        for call, good in calls():
-            answer = told(call, *good.values())
-            self.assertFalse(type(answer) is tuple and answer and isinstance(answer[0], type), (call.__name__, answer))
-            self.assertEqual(told(call, **good), answer, call.__name__)
-            backwards = {name: good[name] for name in reversed(list(good))}
-            self.assertEqual(told(call, **backwards), answer, call.__name__)
-            self.assertEqual(told(call, **good), answer, call.__name__)
+        check_ways_of_calling(self, calls())
 
     def test_errors_by_their_order(self):
         for call, good in calls():

@@ -84,3 +84,13 @@ def check_errors(test, call, good, wrong):
                 answers += [told(call, **right_later), told(call, *right_later.values()), told(call, *named.values())]
             for answer in answers:
                 test.assertEqual(answer, (error, {"thing": value}), (call.__name__, named))
+
+
+def check_ways_of_calling(test, calls):
+    """Each call with right values gives the same answer by position, by name, in any order, and once more."""
+    for call, good in calls:
+        answer = told(call, *good.values())
+        test.assertFalse(type(answer) is tuple and answer and isinstance(answer[0], type), (call.__name__, answer))
+        backwards = {name: good[name] for name in reversed(list(good))}
+        for named in (good, backwards, good):
+            test.assertEqual(told(call, **named), answer, call.__name__)
