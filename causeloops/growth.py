@@ -74,9 +74,9 @@ def news(placement, change):
     before = needs_of(placement)
     told = [()] * count_places(change_to(placement, change))
     for place, edges in enumerate(before):
-        now = place_behind(change, place)
-        if now is not None:
-            told[now] = edges
+        behind = place_behind(change, place)
+        if behind is not None:
+            told[behind] = edges
     after = needs_of(change_to(placement, change))
     return tuple([(left_out(now, then), left_out(then, now)) for then, now in zip(told, after)])
 

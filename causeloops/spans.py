@@ -14,7 +14,7 @@ def reduce_rows(rows, width):
     waiting = [line_of(row, at, len(rows)) for at, row in enumerate(rows)]
     found = []
     for column in range(width):
-        usable = [at for at, line in enumerate(waiting) if line[column] != NOTHING]
+        usable = [at for at, other in enumerate(waiting) if other[column] != NOTHING]
         if not usable:
             continue
         chosen = waiting.pop(usable[0])
@@ -54,11 +54,11 @@ def gap_between(rows, goal):
     """
     width = len(goal)
     lines = reduce_rows(rows, width)
-    taken = [column for column, _ in lines]
+    taken = [at for at, _ in lines]
     for free in range(width):
         if free in taken:
             continue
-        steps = [UNIT if column == free else NOTHING for column in range(width)]
+        steps = [UNIT if at == free else NOTHING for at in range(width)]
         for column, line in lines:
             steps[column] = ratio(-line[free][0], line[free][1])
         if total_of(steps, goal) != NOTHING:

@@ -59,8 +59,8 @@ class Tale:
         if value is None:
             return known == []
         covered = 0
-        for number in known:
-            covered = covered | self.news.causes[number]
+        for other in known:
+            covered = covered | self.news.causes[other]
         fresh = numbers_of(self.news.had[site] & ~covered)
         return any([self.written[number] == (register, value) for number in fresh])
 

@@ -9,7 +9,7 @@ from causeloops.placements import edges, has_step, is_placement, keeps, places, 
 from tests import oracle
 from tests.interface import INTERFACE
 from tests.samples import FULL, JOINED, LINE, NAMED, THREE, strange_values, told, variants
-from tests.wrong import PARTS, is_valid, wrong_edges, wrong_placements, wrong_places
+from tests.wrong import PARTS, check_ways_of_calling, is_valid, wrong_edges, wrong_placements, wrong_places
 
 OF_EDGES = (judge_loop, has_loop, left_ways)
 
@@ -17,12 +17,8 @@ OF_EDGES = (judge_loop, has_loop, left_ways)
 class InterfaceTests(unittest.TestCase):
     def test_by_position_and_by_name(self):
         values = {"placement": THREE, "thing": ("loop", (2,), (1,)), "place": 0, "edge": (1, 2), "one": 0, "other": 1}
-        for module in (placements, loops):
-            for name, parameters in INTERFACE[module].items():
-                call, given = getattr(module, name), {parameter: values[parameter] for parameter in parameters}
-                self.assertEqual(call(*given.values()), call(**given), name)
-                backwards = {parameter: given[parameter] for parameter in reversed(parameters)}
-                self.assertEqual(call(**backwards), call(*given.values()), name)
+        check_ways_of_calling(self, [(getattr(module, name), {parameter: values[parameter] for parameter in parameters})
+                                     for module in (placements, loops) for name, parameters in INTERFACE[module].items()])
 
     def test_the_same_call_returns_an_equal_result(self):
         for placement in NAMED:

@@ -1,5 +1,6 @@
 """Wrong values for the parameters that take any value."""
 
+from causeloops.stores import Store
 from tests import oracle, oracle_runs
 from tests.samples import JOINED, LINE, THREE, strange_values, told, variants
 
@@ -86,10 +87,16 @@ def check_errors(test, call, good, wrong):
                 test.assertEqual(answer, (error, {"thing": value}), (call.__name__, named))
 
 
+def is_plain(value):
+    """Whether a result consists of integers, strings, bools, None and tuples."""
+    return type(value) in (int, str, bool, type(None)) or (type(value) is tuple and all(map(is_plain, value)))
+
+
 def check_ways_of_calling(test, calls):
     """Each call with right values gives the same answer by position, by name, in any order, and once more."""
     for call, good in calls:
         answer = told(call, *good.values())
+        test.assertTrue(is_plain(answer) or isinstance(answer, Store), (call.__name__, answer))
         test.assertFalse(type(answer) is tuple and answer and isinstance(answer[0], type), (call.__name__, answer))
         backwards = {name: good[name] for name in reversed(list(good))}
         for named in (good, backwards, good):
