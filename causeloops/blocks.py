@@ -28,7 +28,7 @@ def reach(net, place, group):
 
 def find_blocks(net):
     """The ascending tuple of the blocks."""
-    pieces = find_pieces(net, range(len(net.near)))
+    pieces = find_pieces(net, list(range(len(net.near))))
     return tuple(sorted([block for piece in pieces for block in split(net, piece)]))
 
 
