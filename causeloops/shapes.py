@@ -21,7 +21,7 @@ FEWEST_SITES = 2
 def parts(placement):
     """The ascending tuple of the ascending tuples of places that hang together."""
     check_placement(placement)
-    return tuple([tuple(piece) for piece in find_pieces(Net(placement), range(count_places(placement)))])
+    return tuple([tuple(piece) for piece in find_pieces(Net(placement), list(range(count_places(placement))))])
 
 
 def blocks(placement):
